@@ -1,0 +1,1 @@
+"""Callfold: which calls give way to the bodies they call."""
