@@ -88,11 +88,16 @@ def calls_of(deed):
 
 
 def own_names(deed):
-    standing = names_in(deed[3])
-    for row in rows_of(deed):
-        standing.extend(row_names(row))
-    plain = [name for name in standing if is_plain(name)]
+    plain = [name for name in standing_names(deed) if is_plain(name)]
     return list(deed[1]) + sorted(set(plain) - set(deed[1]))
+
+
+def standing_names(deed):
+    # The order is that in which numbers behind names are told to come first; params have none.
+    names = []
+    for row in rows_of(deed):
+        names.extend(row_names(row))
+    return names + names_in(deed[3])
 
 
 def is_plain(name):
@@ -134,8 +139,12 @@ def reached_names(book):
     called_by = {}
     for deed in book:
         called_by[deed[0]] = [called for mark, called in calls_of(deed)]
+    return names_reached([deed[0] for deed in book[:1]], called_by)
+
+
+def names_reached(first_names, called_by):
     reached = {}
-    waiting = [deed[0] for deed in book[:1]]
+    waiting = list(first_names)
     while waiting:
         name = waiting.pop()
         # A deed is gone through once alone: calls may go round in rings.

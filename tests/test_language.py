@@ -152,7 +152,48 @@ class Forms(unittest.TestCase):
                 self.assertIsInstance(part, (ast.FunctionDef, ast.Pass), place)
 
 
+class WalkedAndAskedOnTheSpot(unittest.TestCase):
+    walked_in = ["list", "tuple", "dict", "sorted", "sum", "any", "all", "enumerate", "zip", "min", "max"]
+
+    def parents(self):
+        for name, text, tree in modules():
+            for parent in ast.walk(tree):
+                for node in ast.iter_child_nodes(parent):
+                    yield f"{name}:{getattr(node, 'lineno', 0)}", parent, node
+
+    def called_name(self, node):
+        if isinstance(node, ast.Call):
+            return node.func.id if isinstance(node.func, ast.Name) else node.func.attr
+        return None
+
+    def test_walks(self):
+        for place, parent, node in self.parents():
+            if self.called_name(node) in ["zip", "enumerate", "reversed", "range", "items", "keys", "values"]:
+                walked = isinstance(parent, (ast.For, ast.comprehension)) and parent.iter is node
+                self.assertTrue(walked or self.called_name(parent) in self.walked_in, place)
+
+    def test_sets(self):
+        for place, parent, node in self.parents():
+            if self.called_name(node) in ["set", "frozenset"]:
+                asked = isinstance(parent, (ast.Compare, ast.BinOp)) or self.called_name(parent) in ["sorted", "len"]
+                self.assertTrue(asked, place)
+
+
 class Names(unittest.TestCase):
+    def test_locals_are_not_like_imports_and_classes(self):
+        for name, text, tree in modules():
+            above = [node.name for node in tree.body if isinstance(node, ast.ClassDef)]
+            for node in tree.body:
+                if isinstance(node, ast.ImportFrom):
+                    above.extend(alias.name for alias in node.names)
+            for top in tree.body:
+                if isinstance(top, (ast.FunctionDef, ast.ClassDef)):
+                    for node in ast.walk(top):
+                        local = node.arg if isinstance(node, ast.arg) else None
+                        if isinstance(node, ast.Name) and isinstance(node.ctx, ast.Store):
+                            local = node.id
+                        self.assertNotIn(local, above, f"{name}:{top.lineno}")
+
     def bound(self):
         for place, node in nodes(ast.Name, ast.FunctionDef, ast.ClassDef, ast.arg):
             if isinstance(node, ast.Name):
