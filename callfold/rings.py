@@ -5,9 +5,12 @@ from callfold.errors import NoMark
 
 
 def rank_deeds(book, marks):
-    links = links_by(book, marks)
-    ranks = ranked_names(book, links)
-    unranked = [deed[0] for deed in book if deed[0] not in ranks]
+    return ranks_or_ring([deed[0] for deed in book], links_by(book, marks))
+
+
+def ranks_or_ring(names, links):
+    ranks = ranked_names(names, links)
+    unranked = [name for name in names if name not in ranks]
     if unranked:
         return ("ring", ring_among(unranked, links))
     return ("ranks", ranks)
@@ -24,30 +27,39 @@ def is_ring(book, marks, ring):
     return all([links[mark][0] == called[place - 1] for place, mark in enumerate(ring)])
 
 
-def links_by(book, marks):
-    # Told is a dict from each of these marks to (the deed its call stands in, the deed that it calls).
-    all_links = {}
+def links_of(book):
+    # Told is a dict from each mark of the book to (the deed its call stands in, the deed that it calls).
+    links = {}
     for deed in book:
         for mark, called in calls_of(deed):
-            all_links[mark] = (deed[0], called)
-    refuse_wrong_marks(marks, all_links)
-    links = {}
-    for mark in marks:
-        links[mark] = all_links[mark]
+            links[mark] = (deed[0], called)
     return links
 
 
-def refuse_wrong_marks(marks, all_links):
-    if not all([mark in all_links for mark in marks]):
+def links_by(book, marks):
+    links = links_of(book)
+    refuse_wrong_marks(marks, links)
+    return links_among(links, marks)
+
+
+def links_among(links, marks):
+    chosen = {}
+    for mark in marks:
+        chosen[mark] = links[mark]
+    return chosen
+
+
+def refuse_wrong_marks(marks, links):
+    if not all([mark in links for mark in marks]):
         raise NoMark("a mark that no call bears")
     if not all([marks[place - 1] < marks[place] for place in range(1, len(marks))]):
         raise NoMark("marks that do not rise")
 
 
-def ranked_names(book, links):
+def ranked_names(names, links):
     # The first deed that may come next is taken each time; deeds in a ring, or behind one, never may.
     ranks = []
-    waiting = [deed[0] for deed in book]
+    waiting = list(names)
     free = first_free(waiting, links)
     while free is not None:
         ranks.append(free)

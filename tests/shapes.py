@@ -4,6 +4,8 @@ The asker seeds the source, so that each run of the tests sees the same books.
 """
 
 from callfold.books import made_book
+from callfold.errors import TooDeep, TooLong
+from callfold.runs import run_book
 
 NAMES = ["a", "b", "c", "x"]
 WORDS = ["plus", "less", "times", "over", "rest", "under", "same"]
@@ -124,3 +126,28 @@ def marks_in(rows):
 def drawn_marks(chance, book):
     share = chance.choice([0.3, 0.6, 1])
     return [mark for mark in all_marks(book) if chance.random() < share]
+
+
+def drawn_values(chance, book):
+    return [chance.choice([0, 1, 2, 3, 5, 999999]) for _ in book[0][1]]
+
+
+def drawn_done_runs(chance, book, most):
+    """Lists of values, at most so many, on which the book's run is told as done."""
+    found = []
+    for _ in range(most):
+        values = drawn_values(chance, book)
+        try:
+            told = run_book(book, values)
+        except (TooDeep, TooLong):
+            continue
+        if told[0] == "done":
+            found.append(values)
+    return found
+
+
+def drawn_counts(chance, book):
+    """A count for each mark, the marks in any order."""
+    marks = all_marks(book)
+    chance.shuffle(marks)
+    return {mark: chance.choice([0, 1, 1, 2, 3, 7, 40]) for mark in marks}
