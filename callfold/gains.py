@@ -3,21 +3,21 @@
 from callfold.books import deed_of, own_names
 from callfold.errors import BadRun, NoMark, TooDeep, TooLong, WrongCount
 from callfold.rings import links_by, links_of
-from callfold.runs import run_book
+from callfold.runs import run_with_ways
 
 
 def count_calls(book, runs):
     counts = {}
     for mark in sorted(links_of(book)):
         counts[mark] = 0
-    for told in done_runs(book, runs):
+    for told, ways in done_runs(book, runs):
         for mark, many in told[4].items():
             counts[mark] += many
     return counts
 
 
 def time_of(book, runs, price):
-    return sum([run_time(told, price) for told in done_runs(book, runs)])
+    return sum([run_time(told, price) for told, ways in done_runs(book, runs)])
 
 
 def run_time(told, price):
@@ -25,17 +25,18 @@ def run_time(told, price):
 
 
 def done_runs(book, runs):
+    # For each run a tuple: what run_book tells, and the ways by which calls were made.
     return [done_run(book, values, number) for number, values in enumerate(runs)]
 
 
 def done_run(book, values, number):
     try:
-        told = run_book(book, values)
+        found = run_with_ways(book, values)
     except (WrongCount, TooDeep, TooLong):
         raise BadRun(number) from None
-    if told[0] != "done":
+    if found[0][0] != "done":
         raise BadRun(number)
-    return told
+    return found
 
 
 def mark_gain(book, counts, price, mark):

@@ -21,13 +21,15 @@ class Block:
 
 
 class Work:
-    # A deed that runs: what its names hold, its blocks, the inmost last, and the caller's name for what it gives.
+    # A deed that runs: what its names hold, its blocks, the inmost last, the caller's name for what it gives,
+    # and the marks of the calls by which it came to run, the first deed's own call first.
 
-    def __init__(self, deed, values, holder):
+    def __init__(self, deed, values, holder, way):
         self.give = deed[3]
         self.held = dict(zip(deed[1], values))
         self.blocks = [Block(deed[2], 0, 0)]
         self.holder = holder
+        self.way = way
 
 
 class Run:
@@ -40,6 +42,7 @@ class Run:
         self.said = []
         self.row_count = 0
         self.calls = {}
+        self.ways = {}
         self.call_count = 0
         self.round_count = 0
 
@@ -57,7 +60,9 @@ class Run:
             raise TooLong("one call too many")
         self.call_count += 1
         self.calls[call[4]] = self.calls.get(call[4], 0) + 1
-        self.works.append(Work(deed_of(self.book, call[2]), values, call[1]))
+        way = self.works[-1].way + (call[4],)
+        self.ways[way] = self.ways.get(way, 0) + 1
+        self.works.append(Work(deed_of(self.book, call[2]), values, call[1], way))
 
     def end_deed(self):
         ended = self.works.pop()
@@ -68,16 +73,21 @@ class Run:
 
 
 def run_book(book, values):
+    return run_with_ways(book, values)[0]
+
+
+def run_with_ways(book, values):
+    # Told are what run_book tells, and a dict from each way by which calls were made to how often.
     first = book[0]
     if len(values) != len(first[1]):
         raise WrongCount("more or fewer values than the first deed has params")
     run = Run(book)
-    run.works.append(Work(first, values, None))
+    run.works.append(Work(first, values, None, ()))
     try:
         given = run_to_end(run)
     except Broken:
-        return ("broken", run.said)
-    return ("done", run.said, given, run.row_count, run.calls)
+        return (("broken", run.said), run.ways)
+    return (("done", run.said, given, run.row_count, run.calls), run.ways)
 
 
 def run_to_end(run):

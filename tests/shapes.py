@@ -123,6 +123,21 @@ def marks_in(rows):
     return found
 
 
+def call_rows_by_mark(book):
+    """A dict from each mark to the row of its call."""
+    found = {}
+    for deed in book:
+        waiting = list(deed[2])
+        while waiting:
+            row = waiting.pop()
+            if row[0] == "call":
+                found[row[4]] = row
+            elif row[0] in ("when", "turn"):
+                for part in row[2:]:
+                    waiting.extend(part)
+    return found
+
+
 def drawn_marks(chance, book):
     share = chance.choice([0.3, 0.6, 1])
     return [mark for mark in all_marks(book) if chance.random() < share]
@@ -151,3 +166,24 @@ def drawn_counts(chance, book):
     marks = all_marks(book)
     chance.shuffle(marks)
     return {mark: chance.choice([0, 1, 1, 2, 3, 7, 40]) for mark in marks}
+
+
+def is_first_called(book):
+    return any(called_by(one[2], book[0][0]) for one in book)
+
+
+def called_by(rows, name):
+    for row in rows:
+        if row[0] == "call" and row[2] == name:
+            return True
+        if row[0] in ("when", "turn") and any(called_by(part, name) for part in row[2:]):
+            return True
+    return False
+
+
+def drawn_book_of_ways(chance, **form):
+    """A fresh book whose first deed no call calls, and that has calls in it."""
+    while True:
+        book = drawn_book(chance, **form)
+        if marks_in(book[0][2]) and not is_first_called(book):
+            return book

@@ -9,7 +9,7 @@ from callfold.placing import place_call, tidy_book
 from callfold.rings import is_ring, rank_deeds
 from callfold.runs import run_book
 from callfold.texts import book_text, read_book
-from shapes import all_marks, call, deed, drawn_book, drawn_marks, nam, num, turned
+from shapes import all_marks, call, deed, drawn_book, drawn_marks, num, turned
 
 SAY_ONE = ("say", num(1))
 

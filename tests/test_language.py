@@ -102,6 +102,26 @@ class Forms(unittest.TestCase):
             for name in free:
                 drawn.pop(name)
 
+    def test_names_are_drawn_from_the_file_that_defines_them(self):
+        defined = {}
+        for name, text, tree in modules():
+            defined[name[:-3]] = [node.name for node in tree.body if isinstance(node, (ast.FunctionDef, ast.ClassDef))]
+            defined[name[:-3]] += [node.targets[0].id for node in tree.body if isinstance(node, ast.Assign)]
+        for place, node in nodes(ast.ImportFrom):
+            for alias in node.names:
+                self.assertIsNone(alias.asname, place)
+                self.assertIn(alias.name, defined[node.module.split(".")[1]], place)
+
+    def test_top_values_are_written_out(self):
+        for name, text, tree in modules():
+            for top in tree.body:
+                if isinstance(top, ast.Assign):
+                    for node in ast.walk(top.value):
+                        self.assertIsInstance(node, (ast.Constant, ast.List, ast.Tuple, ast.Dict, ast.Load), name)
+                    if isinstance(top.value, (ast.List, ast.Dict)):
+                        inner = [node for node in ast.walk(top.value) if isinstance(node, (ast.List, ast.Dict))]
+                        self.assertEqual(len(inner), 1, name)
+
     def test_statements(self):
         for place, node in nodes(ast.stmt):
             with self.subTest(place):

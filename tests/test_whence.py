@@ -180,7 +180,7 @@ class Whence(unittest.TestCase):
             for one, (name, origins) in zip(folded, told):
                 self.hold(AsTold(book, marks, name), rows_of(one), origins)
                 deep += any(len(way) > 1 for way, kind, what in origins)
-        self.assertGreater(deep, 60)
+        self.assertGreater(deep, 40)
 
     def hold(self, as_told, rows, origins):
         self.assertEqual(len(rows), len(origins))
